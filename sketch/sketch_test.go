@@ -7,6 +7,7 @@ import (
 
 	"pantry/api"
 	"pantry/mix"
+	"pantry/testkeys"
 )
 
 // plain is the chapter's sketch with nothing packed: a number for each counter.
@@ -87,10 +88,6 @@ func sameRows(a, b [4][]int) bool {
 	return slices.EqualFunc(a[:], b[:], slices.Equal[[]int])
 }
 
-func seeds() []int {
-	return []int{0, 1, 2, -1, 1 << 40, api.MinInt, api.MaxInt}
-}
-
 // P3.1: capacities at, beside and beyond both ends, powers of two and such as are none.
 func TestNew(t *testing.T) {
 	for _, c := range []struct{ capacity, width int }{
@@ -101,7 +98,7 @@ func TestNew(t *testing.T) {
 		{1<<16 - 1, 1 << 16}, {1 << 16, 1 << 16}, {1<<16 + 1, 1 << 16}, {1 << 17, 1 << 16},
 		{1 << 32, 1 << 16}, {1 << 62, 1 << 16}, {api.MaxInt, 1 << 16},
 	} {
-		for _, seed := range seeds() {
+		for _, seed := range testkeys.Seeds() {
 			x := New(c.capacity, seed)
 			if x.Count(7) != 0 {
 				t.Fatalf("New(%d, %d) counts %d of a key", c.capacity, seed, x.Count(7))
@@ -165,30 +162,13 @@ func TestPlaces(t *testing.T) {
 	}
 }
 
-// keyAt makes keys of which some come often, some once, some below 0 and at the ends.
-func keyAt(i int) int {
-	switch i % 7 {
-	case 0, 1:
-		return i % 5
-	case 2:
-		return -i * i
-	case 3:
-		return i % 31
-	case 4:
-		return api.MaxInt - i%3
-	case 5:
-		return api.MinInt + i%3
-	}
-	return i << 20
-}
-
 // P3.1 to P3.4: a sketch goes with the plain one, add by add, across its halvings and others.
 func TestAsThePlainOne(t *testing.T) {
 	for _, width := range []int{16, 32, 128} {
-		for _, seed := range seeds() {
+		for _, seed := range testkeys.Seeds() {
 			x, p, halvings := New(width, seed), newPlain(width, seed), 0
 			for i := range 50 * width {
-				key := keyAt(i)
+				key := testkeys.At(i)
 				more, halved := x.Add(key)
 				if m, h := p.add(key); more != m || halved != h {
 					t.Fatalf("width %d, seed %d: add %d answers %v, %v, want %v, %v", width, seed, i, more, halved, m, h)
@@ -432,12 +412,12 @@ func TestAskingChangesNothing(t *testing.T) {
 // P3.3: without halving a key counts no less than it was added, up to 15, and no add makes any key count less.
 func TestCountsNoLess(t *testing.T) {
 	for _, width := range []int{16, 64, 4096} {
-		for _, seed := range seeds() {
+		for _, seed := range testkeys.Seeds() {
 			x, added, last := New(width, seed), map[int]int{}, map[int]int{}
 			for i := range 10*width - 1 {
 				key := i * i % 23
 				if i%3 == 0 {
-					key = keyAt(i)
+					key = testkeys.At(i)
 				}
 				if _, halved := x.Add(key); halved {
 					t.Fatal("halved ahead of its time")
