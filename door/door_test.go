@@ -46,9 +46,6 @@ func (p *plain) ones() int {
 	return n
 }
 
-// keyOf is a key whose bits are a and b, of a door of at most 2^16 bits: Mix undone of a word that has both places in it.
-func keyOf(seed, a, b int) int { return mix.Back(seed, uint64(a)|uint64(b)<<48) }
-
 // same holds a door of at most 2^16 bits against a plain one, bit by bit: a key of one bit is there if that bit is on.
 func same(t *testing.T, what string, x *Door, p *plain) {
 	t.Helper()
@@ -56,7 +53,7 @@ func same(t *testing.T, what string, x *Door, p *plain) {
 		t.Fatalf("%s: %d of %d bits, want %d of %d", what, x.Ones(), x.Size(), p.ones(), len(p.on))
 	}
 	for at, on := range p.on {
-		if x.Has(keyOf(p.seed, at, at)) != on {
+		if x.Has(testkeys.OfBits(p.seed, at, at)) != on {
 			t.Fatalf("%s: bit %d is %v, want %v", what, at, !on, on)
 		}
 	}
@@ -93,7 +90,7 @@ func TestEveryBit(t *testing.T) {
 			x, p := New(width, seed), newPlain(8*width, seed)
 			same(t, "new", x, p)
 			for at := range x.Size() {
-				key := keyOf(seed, at, at)
+				key := testkeys.OfBits(seed, at, at)
 				if x.Put(key) || !x.Has(key) || x.Ones() != at+1 {
 					t.Fatalf("width %d, seed %d: bit %d put on, %d on", width, seed, at, x.Ones())
 				}
@@ -149,7 +146,7 @@ func TestPlacesOfTheGreatest(t *testing.T) {
 		x, h := New(1<<16, c.seed), mix.Mix(c.seed, c.key)
 		x.Put(c.key)
 		// The top three bits of b are the low three of a there.
-		if low := c.b & 0xFFFF; x.Ones() != 2 || !x.Has(keyOf(c.seed, c.a, low)) {
+		if low := c.b & 0xFFFF; x.Ones() != 2 || !x.Has(testkeys.OfBits(c.seed, c.a, low)) {
 			t.Errorf("key %d: %d bits, not at %d and %d", c.key, x.Ones(), c.a, c.b)
 		}
 		for _, other := range []uint64{h ^ 1, h ^ 1<<18, h ^ 1<<48, h ^ 1<<63} {
@@ -191,7 +188,7 @@ func TestAsThePlainOne(t *testing.T) {
 
 // P4.2, P4.4: a key whose two bits are one puts one bit on, and is there by it alone.
 func TestKeyOfOneBit(t *testing.T) {
-	for _, c := range []struct{ seed, key int }{{0, 0}, {1, 212}, {1, 553}, {1, 1978}, {7, keyOf(7, 0, 0)}, {-7, keyOf(-7, 127, 127)}, {2, keyOf(2, 63, 63)}, {2, keyOf(2, 64, 64)}} {
+	for _, c := range []struct{ seed, key int }{{0, 0}, {1, 212}, {1, 553}, {1, 1978}, {7, testkeys.OfBits(7, 0, 0)}, {-7, testkeys.OfBits(-7, 127, 127)}, {2, testkeys.OfBits(2, 63, 63)}, {2, testkeys.OfBits(2, 64, 64)}} {
 		x, p := New(16, c.seed), newPlain(128, c.seed)
 		if x.Has(c.key) || x.Put(c.key) || x.Ones() != 1 {
 			t.Errorf("seed %d: Put(%d) lets %d bits be on, want 1", c.seed, c.key, x.Ones())
@@ -219,10 +216,10 @@ func TestKeyOfOneBitOfTheGreatest(t *testing.T) {
 func TestHalfThere(t *testing.T) {
 	for _, at := range [][2]int{{3, 90}, {90, 3}, {0, 127}, {127, 0}, {63, 64}, {64, 63}, {5, 6}, {5, 69}} {
 		a, b := at[0], at[1]
-		key := keyOf(4, a, b)
+		key := testkeys.OfBits(4, a, b)
 		for _, only := range at {
 			x, p := New(16, 4), newPlain(128, 4)
-			x.Put(keyOf(4, only, only))
+			x.Put(testkeys.OfBits(4, only, only))
 			if x.Has(key) || x.Put(key) {
 				t.Errorf("bits %d and %d, %d on: it is there", a, b, only)
 			}
@@ -240,10 +237,10 @@ func TestPutOnByOthers(t *testing.T) {
 	for _, others := range [][][2]int{{{3, 3}, {90, 90}}, {{3, 50}, {50, 90}}, {{90, 3}}, {{3, 90}}, {{90, 1}, {1, 3}}} {
 		x, p := New(16, 4), newPlain(128, 4)
 		for _, o := range others {
-			x.Put(keyOf(4, o[0], o[1]))
-			p.put(keyOf(4, o[0], o[1]))
+			x.Put(testkeys.OfBits(4, o[0], o[1]))
+			p.put(testkeys.OfBits(4, o[0], o[1]))
 		}
-		key := keyOf(4, 3, 90)
+		key := testkeys.OfBits(4, 3, 90)
 		if !x.Has(key) {
 			t.Errorf("others put on %v: bits 3 and 90 are not there", others)
 		}

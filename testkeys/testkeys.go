@@ -1,7 +1,10 @@
 // Package testkeys gives the seeds and keys that the layers' tests try; the program itself does not call it.
 package testkeys
 
-import "pantry/api"
+import (
+	"pantry/api"
+	"pantry/mix"
+)
 
 // Seeds are small ones, one beyond 32 bits, and both ends.
 func Seeds() []int {
@@ -24,3 +27,6 @@ func At(i int) int {
 	}
 	return i << 20
 }
+
+// OfBits is a key whose bits are a and b, of a door of at most 2^16 bits: Mix undone of a word that has both places in it.
+func OfBits(seed, a, b int) int { return mix.Back(seed, uint64(a)|uint64(b)<<48) }
